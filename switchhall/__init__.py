@@ -1,0 +1,1 @@
+"""Switchhall: calls put over frames, timetables and nets."""

@@ -1,0 +1,1 @@
+"""Tests of the program; they lie beside the package, never in it."""
