@@ -27,7 +27,44 @@ WORDS_OUT = re.compile(
     r"\b(type|typing|typing_extensions|enum|Enum|IntEnum|StrEnum|Flag|IntFlag|Generic|Protocol|ABC|ABCMeta|namedtuple"
     r"|NamedTuple|TypedDict|TYPE_CHECKING|abstractmethod)\b|dataclass|overload|contextmanager")
 
+NAMES_OUT = """register mro elements open input version_info with_traceback add_note attrgetter breakpoint builtins
+compile copyright credits delattr dir eval exec exit gc getattr globals hasattr help id importlib license locals
+methodcaller os quit setattr super type vars sys""".split()
+
+WALKED_AT_ONCE = ["zip", "enumerate", "reversed", "range", "items", "keys", "values"]
+WALKERS = ["list", "tuple", "dict", "sorted", "sum", "any", "all", "enumerate", "zip", "min", "max", "join"]
+CHANGES = ["append", "clear", "extend", "insert", "pop", "remove", "reverse", "setdefault", "update"]
+
 PYTHONS_ATTRIBUTES = set().union(*[dir(kind) for kind in (str, int, list, tuple, dict, set, bytes)])
+
+
+def called(node):
+    """The name by which a call calls, else None."""
+    if not isinstance(node, ast.Call):
+        return None
+    return getattr(node.func, "id", None) or getattr(node.func, "attr", None)
+
+
+def where(node):
+    return (node.lineno, node.col_offset, node.end_lineno, node.end_col_offset)
+
+
+def walked(node):
+    """What a loop walks, itself or through enumerate and its like."""
+    if called(node) in ("enumerate", "zip", "reversed"):
+        return [inner for part in node.args for inner in walked(part)]
+    if called(node) == "items":
+        return walked(node.func.value)
+    return [ast.unparse(node)]
+
+
+def changed(node):
+    """What a row changes by an index or by a call, else None."""
+    if isinstance(node, ast.Subscript) and isinstance(node.ctx, ast.Store):
+        return ast.unparse(node.value)
+    if called(node) in CHANGES and isinstance(node.func, ast.Attribute):
+        return ast.unparse(node.func.value)
+    return None
 
 
 class FormTest(unittest.TestCase):
@@ -99,6 +136,53 @@ class FormTest(unittest.TestCase):
         for name, node in self.each_node(ast.Attribute):
             if node.attr in PYTHONS_ATTRIBUTES and node.attr not in DOUBLE:
                 self.assertIn(node.attr, OWN_METHODS, (name, node.lineno))
+
+    def test_names_that_are_not_used(self):
+        for name, node in self.each_node(ast.Name, ast.arg, ast.FunctionDef, ast.ClassDef, ast.Attribute):
+            for part in ("id", "arg", "name", "attr"):
+                self.assertNotIn(getattr(node, part, None), NAMES_OUT, (name, node.lineno))
+
+    def test_no_local_is_called_like_a_class_or_an_import(self):
+        for path in self.files():
+            nodes = list(ast.walk(ast.parse(path.read_text())))
+            taken = [node.name for node in nodes if isinstance(node, (ast.ClassDef, ast.alias))]
+            for node in nodes:
+                if isinstance(node, ast.arg):
+                    self.assertNotIn(node.arg, taken, (path.name, node.lineno))
+                elif isinstance(node, ast.Name) and isinstance(node.ctx, ast.Store):
+                    self.assertNotIn(node.id, taken, (path.name, node.lineno))
+
+    def test_walked_at_once(self):
+        walks = set()
+        for name, node in self.each_node(ast.For, ast.comprehension, ast.Call):
+            if not isinstance(node, ast.Call):
+                walks.add((name, where(node.iter)))
+            elif called(node) in WALKERS:
+                firsts = node.args if called(node) in ("enumerate", "zip") else node.args[:1]
+                walks |= {(name, where(first)) for first in firsts}
+        for name, node in self.each_node(ast.Call):
+            if called(node) in WALKED_AT_ONCE:
+                self.assertTrue((name, where(node)) in walks, (name, node.lineno))
+
+    def test_what_a_loop_walks_is_not_changed_in_it(self):
+        for name, node in self.each_node(ast.For):
+            for row in node.body:
+                for inner in ast.walk(row):
+                    self.assertNotIn(changed(inner), walked(node.iter), (name, node.lineno))
+
+    def test_sets_are_not_kept(self):
+        for name, node in self.each_node(ast.Assign, ast.AugAssign, ast.Return, ast.For):
+            value = node.iter if isinstance(node, ast.For) else node.value
+            self.assertNotIsInstance(value, ast.Set, (name, node.lineno))
+            self.assertNotIn(called(value), ("set", "frozenset"), (name, node.lineno))
+
+    def test_powers_and_texts(self):
+        for name, node in self.each_node(ast.BinOp):
+            if isinstance(node.op, ast.Pow):
+                self.assertIsInstance(node.right, ast.Constant, (name, node.lineno))
+        for name, node in self.each_node(ast.Constant):
+            if isinstance(node.value, str):
+                self.assertNotIn("%", node.value, (name, node.lineno))
 
     def test_no_name_is_a_method_here_and_a_value_there(self):
         methods = {row.name for name, node in self.each_node(ast.ClassDef) for row in node.body if hasattr(row, "name")}

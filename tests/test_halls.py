@@ -4,39 +4,10 @@ import unittest
 
 from switchhall import errors
 from switchhall.halls import Hall
+from tests.common import AskingCase, BEYOND_SHOWING, WRONG_KINDS
 
 
-class Unshowable:
-    """A thing that can't be shown, compared or looked up."""
-
-    __hash__ = None
-
-    def refuse(self, *rest):
-        raise RuntimeError("not to be asked")
-
-    __repr__ = __str__ = __eq__ = __lt__ = __le__ = __gt__ = __ge__ = refuse
-    __bool__ = __len__ = __int__ = __index__ = refuse
-
-
-# Each equals, or could be taken for, a number that a hall has.
-WRONG_KINDS = [
-    True, False, None, "", "0", "1", b"0", 0.0, 1.0, float("nan"), 1j,
-    [], [0], [1], (), (0,), (1,), {}, {0: 1}, {1}, range(2), int, Hall, Unshowable(),
-]
-
-BEYOND_SHOWING = 10 ** 5000
-
-
-class HallCase(unittest.TestCase):
-    def assert_refused(self, refusal, asked, *arguments):
-        """Refused with the very class, which the common class takes too."""
-        try:
-            asked(*arguments)
-        except errors.SwitchError as refused:
-            self.assertIs(type(refused), refusal)
-        else:
-            self.fail("not refused")
-
+class HallCase(AskingCase):
     def state(self, hall, inlets, outlets):
         loads_in = [hall.load_in(inlet) for inlet in range(inlets)]
         loads_out = [hall.load_out(outlet) for outlet in range(outlets)]
