@@ -61,10 +61,10 @@ def rounds(order):
     return told
 
 
-def exchange(row, place):
-    kept = row[place]
-    row[place] = row[place + 1]
-    row[place + 1] = kept
+def exchange(row, one, other):
+    kept = row[one]
+    row[one] = row[other]
+    row[other] = kept
 
 
 def swaps(order):
@@ -75,7 +75,7 @@ def swaps(order):
     for behind in range(1, len(goals)):
         place = behind - 1
         while place >= 0 and goals[place] > goals[place + 1]:
-            exchange(goals, place)
+            exchange(goals, place, place + 1)
             told.append(place)
             place -= 1
     return told

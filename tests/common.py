@@ -1,6 +1,8 @@
-"""What the tests have in common: wrong things to hand in, refusals, and lists that stand apart."""
+"""What the tests have in common: things to hand in, right and wrong, refusals, and lists that stand apart."""
 
 import copy
+import itertools
+import random
 import unittest
 
 from switchhall import errors
@@ -43,6 +45,39 @@ def lists_within(value):
         for part in value:
             found += lists_within(part)
     return found
+
+
+def all_orders(most):
+    for many in range(1, most + 1):
+        for order in itertools.permutations(range(many)):
+            yield list(order)
+
+
+def some_orders(seed, many):
+    source = random.Random(seed)
+    for again in range(many):
+        lines = source.randint(1, 16)
+        yield source.sample(range(lines), lines)
+
+
+def net_from(switch, many):
+    """A net whose switches are told one by one."""
+    if many == 2:
+        return switch()
+    first = [switch() for k in range(many // 2)]
+    upper, lower = net_from(switch, many // 2), net_from(switch, many // 2)
+    return (first, upper, lower, [switch() for k in range(many // 2)])
+
+
+def all_nets_of_four():
+    for settings in itertools.product([0, 1], repeat=6):
+        told = iter(settings)
+        yield net_from(lambda: next(told), 4)
+
+
+def some_nets(seed, many, again):
+    source = random.Random(seed)
+    return [net_from(lambda: source.randrange(2), many) for one in range(again)]
 
 
 class AskingCase(unittest.TestCase):

@@ -31,6 +31,10 @@ NAMES_OUT = """register mro elements open input version_info with_traceback add_
 compile copyright credits delattr dir eval exec exit gc getattr globals hasattr help id importlib license locals
 methodcaller os quit setattr super type vars sys""".split()
 
+KEYWORDS = {"sorted": ["key", "reverse"], "min": ["key", "default"], "max": ["key", "default"], "sum": ["start"],
+            "enumerate": ["start"], "zip": ["strict"]}
+KINDS_TO_ASK = ["int", "str", "bool", "list", "tuple", "dict"]
+
 WALKED_AT_ONCE = ["zip", "enumerate", "reversed", "range", "items", "keys", "values"]
 WALKERS = ["list", "tuple", "dict", "sorted", "sum", "any", "all", "enumerate", "zip", "min", "max", "join"]
 CHANGES = ["append", "clear", "extend", "insert", "pop", "remove", "reverse", "setdefault", "update"]
@@ -94,6 +98,47 @@ class FormTest(unittest.TestCase):
     def test_only_the_told_part_of_the_language(self):
         for name, node in self.each_node(ast.AST):
             self.assertIn(node.__class__.__name__, NODES, (name, getattr(node, "lineno", 0)))
+
+    def test_the_top_of_a_file(self):
+        for path in self.files():
+            bound = []
+            for row in ast.parse(path.read_text()).body[1:]:
+                self.assertIsInstance(row, (ast.ImportFrom, ast.FunctionDef, ast.ClassDef, ast.Assign), path.name)
+                if isinstance(row, ast.ImportFrom):
+                    bound += [said.asname or said.name for said in row.names]
+                elif isinstance(row, ast.Assign):
+                    bound.append(row.targets[0].id)
+                    # No list or dict, plain or within one, so that none can be changed.
+                    self.assertIsInstance(ast.literal_eval(row.value), (int, str, tuple), (path.name, row.lineno))
+                    hash(ast.literal_eval(row.value))
+                else:
+                    bound.append(row.name)
+            self.assertEqual(len(bound), len(set(bound)), path.name)
+
+    def test_pythons_own_as_they_are_called(self):
+        called_names = {(name, where(node.func)) for name, node in self.each_node(ast.Call)}
+        asked_kinds = set()
+        for name, node in self.each_node(ast.Call):
+            if called(node) == "isinstance":
+                parts = node.args[1].elts if isinstance(node.args[1], ast.Tuple) else [node.args[1]]
+                for part in parts:
+                    self.assertIn(part.id, KINDS_TO_ASK, (name, node.lineno))
+                    asked_kinds.add((name, where(part)))
+            if node.keywords and called(node) in OWN_NAMES + OWN_METHODS:
+                for given in node.keywords:
+                    self.assertIn(given.arg, KEYWORDS.get(called(node), []), (name, node.lineno))
+        for name, node in self.each_node(ast.ClassDef):
+            called_names |= {(name, where(base)) for base in node.bases}
+        for name, node in self.each_node(ast.Name):
+            if node.id in OWN_NAMES:
+                self.assertTrue((name, where(node)) in called_names | asked_kinds, (name, node.lineno))
+
+    def test_methods_are_called_where_they_stand(self):
+        called_here = {(name, where(node.func)) for name, node in self.each_node(ast.Call)}
+        methods = {row.name for name, node in self.each_node(ast.ClassDef) for row in node.body if hasattr(row, "name")}
+        for name, node in self.each_node(ast.Attribute):
+            if node.attr in OWN_METHODS or node.attr in methods:
+                self.assertTrue((name, where(node)) in called_here, (name, node.lineno))
 
     def test_functions(self):
         for name, node in self.each_node(ast.FunctionDef):

@@ -6,7 +6,7 @@ import unittest
 
 from switchhall.errors import BadOrder
 from switchhall.nets import depth, lines, net_for, order_of, sent, switches
-from tests.common import AskingCase, NO_ORDERS, Unshowable, lists_within
+from tests.common import AskingCase, NO_ORDERS, Unshowable, all_nets_of_four, lists_within, net_from, some_nets
 
 SIZES = [2, 4, 8, 16]
 # How many switches are in a net of so many lines, and how many of them a line goes through.
@@ -27,26 +27,6 @@ def trace(net, line, many):
 
 def places_of(net, many):
     return [trace(net, line, many)[0] for line in range(many)]
-
-
-def net_from(switch, many):
-    """A net whose switches are told one by one."""
-    if many == 2:
-        return switch()
-    first = [switch() for k in range(many // 2)]
-    upper, lower = net_from(switch, many // 2), net_from(switch, many // 2)
-    return (first, upper, lower, [switch() for k in range(many // 2)])
-
-
-def all_nets_of_four():
-    for settings in itertools.product([0, 1], repeat=6):
-        told = iter(settings)
-        yield net_from(lambda: next(told), 4)
-
-
-def some_nets(seed, many, again):
-    source = random.Random(seed)
-    return [net_from(lambda: source.randrange(2), many) for one in range(again)]
 
 
 def plain_orders(many):

@@ -1,27 +1,13 @@
 """Orders, one after another, the way back, rounds and swaps (points 1 and 10)."""
 
 import itertools
-import random
 import unittest
 
 from switchhall.errors import BadOrder
 from switchhall.orders import after, checked_order, rounds, swaps, way_back
-from tests.common import AskingCase, NO_ORDERS
+from tests.common import AskingCase, NO_ORDERS, all_orders, some_orders
 
 ASKED = [checked_order, way_back, rounds, swaps]
-
-
-def all_orders(most):
-    for many in range(1, most + 1):
-        for order in itertools.permutations(range(many)):
-            yield list(order)
-
-
-def some_orders(seed, many):
-    source = random.Random(seed)
-    for again in range(many):
-        lines = source.randint(1, 16)
-        yield source.sample(range(lines), lines)
 
 
 class OrderCase(AskingCase):
